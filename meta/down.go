@@ -1,9 +1,6 @@
 package meta
 
-import (
-	"chiasmus/api"
-	"chiasmus/term"
-)
+import "chiasmus/api"
 
 // wrong is the panic of what is no metacode.
 type wrong struct{}
@@ -41,7 +38,7 @@ func reader(l []api.Term) (next func() api.Term, more func() bool) {
 	return next, more
 }
 
-// expression returns the one with some metacode.
+// expression returns the one with some metacode; its names may be wrong, which is not a matter of the form.
 func expression(v []api.Term) []api.Term {
 	var l []api.Term
 	next, more := reader(v)
@@ -85,14 +82,13 @@ func call(v []api.Term) api.Term {
 	return t
 }
 
-// named returns a term of a kind with a word as its name, which must be a right one.
+// named returns a term of a kind with a word as its name.
 func named(kind int, name api.Term) api.Term {
-	t := api.Term{Kind: kind, Text: name.Text}
-	must(name.Kind == api.Word && term.Result([]api.Term{t}) == api.OK)
-	return t
+	must(name.Kind == api.Word)
+	return api.Term{Kind: kind, Text: name.Text}
 }
 
-// program returns the one with some metacode.
+// program returns the one with some metacode; it may have errors.
 func program(v []api.Term) api.Program {
 	var p api.Program
 	next, more := reader(v)

@@ -189,3 +189,101 @@ func checkSentences(t *testing.T, p api.Program, v []api.Term) {
 		}
 	}
 }
+
+// form returns the metacode that an expression would have, if all its names were right.
+func form(l []api.Term) []api.Term {
+	group := func(l []api.Term) api.Term { return api.Term{Kind: api.Group, Kids: l} }
+	var v []api.Term
+	for _, t := range l {
+		word := api.Term{Kind: api.Word, Text: t.Text}
+		switch {
+		case t.Kind == api.Char && t.Text == "*":
+			v = append(v, term.Chars("*V")...)
+		case t.Kind == api.Group:
+			v = append(v, group(form(t.Kids)))
+		case t.Kind == api.Call:
+			v = append(append(v, term.Chars("*")...), group(append([]api.Term{word}, form(t.Kids)...)))
+		case term.IsVariable(t):
+			v = append(append(v, term.Chars("*"+string("STE"[t.Kind-api.SVar]))...), word)
+		default:
+			v = append(v, t)
+		}
+	}
+	return v
+}
+
+// programForm returns that of a program.
+func programForm(p api.Program) []api.Term {
+	group := func(l ...api.Term) api.Term { return api.Term{Kind: api.Group, Kids: l} }
+	var v []api.Term
+	for _, f := range p.Functions {
+		l := []api.Term{{Kind: api.Word, Text: f.Name}, {Kind: api.Word, Text: "LOCAL"}}
+		if f.Entry {
+			l[1].Text = "ENTRY"
+		}
+		for _, s := range f.Sentences {
+			l = append(l, group(group(form(s.Left)...), group(form(s.Right)...)))
+		}
+		v = append(v, group(l...))
+	}
+	return v
+}
+
+// misname gives some variables and calls other words as names, which may be wrong.
+func (g generator) misname(l []api.Term) {
+	for i := range l {
+		if l[i].Kind >= api.SVar && g.Intn(4) == 0 {
+			l[i].Text = []string{"1", "a-b", "x y", "*", "G"}[g.Intn(5)]
+		}
+		g.misname(l[i].Kids)
+	}
+}
+
+func TestWrongNames(t *testing.T) {
+	g := newGenerator(6)
+	for range 5000 {
+		e := g.expression(api.Call, 3)
+		g.misname(e)
+		l, code := meta.Dn(form(e))
+		if term.Result(e) != api.OK {
+			if code != meta.ErrMeta || len(l) != 0 {
+				t.Fatalf("Dn(%s) = %s, %v", text(form(e)), text(l), code)
+			}
+		} else if !term.Equal(l, e) || code != api.OK {
+			t.Fatalf("Dn(%s) = %s, %v", text(form(e)), text(l), code)
+		}
+	}
+}
+
+func TestProgramsWithWrongNames(t *testing.T) {
+	g := newGenerator(7)
+	seen := map[api.Errno]int{}
+	for range 20000 {
+		p := g.program()
+		for i := range p.Functions {
+			f := &p.Functions[i]
+			if g.Intn(10) == 0 {
+				f.Name = []string{"1", "F G", "F"}[g.Intn(3)]
+			}
+			for j := range f.Sentences {
+				s := &f.Sentences[j]
+				if g.Intn(10) == 0 {
+					s.Left = g.expression(api.Call, 2)
+				}
+				g.misname(s.Left)
+				g.misname(s.Right)
+			}
+		}
+		_, want := check.Program(p)
+		seen[want]++
+		q, code := meta.Read(programForm(p))
+		if code != want || code == api.OK && !same(p, q) || code != api.OK && len(q.Functions) != 0 {
+			t.Fatalf("Read(%s) = %v, %v, want %v", text(programForm(p)), q, code, want)
+		}
+	}
+	for _, code := range []api.Errno{api.OK, api.ErrForm, api.ErrDuplicate, check.ErrName, check.ErrUnbound, check.ErrCalls} {
+		if seen[code] < 20 {
+			t.Errorf("only %d programs had the error %v", seen[code], code)
+		}
+	}
+}
