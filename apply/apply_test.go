@@ -469,3 +469,51 @@ func TestNothingIsChanged(t *testing.T) {
 		t.Errorf("the arguments were %s and are %s", before, now)
 	}
 }
+
+// TestWithin has other limits of the terms of a result, but not of its depth.
+func TestWithin(t *testing.T) {
+	large := []api.Binding{{Var: "e.1", Value: term.Chars(long("a", 4000))}}
+	for _, c := range []struct {
+		e    []api.Term
+		l    []api.Binding
+		most int
+		want api.Errno
+	}{
+		{parsed(t, "e.1 (e.1)"), large, 8001, api.OK},
+		{parsed(t, "e.1 (e.1)"), large, 8000, api.ErrLarge},
+		{parsed(t, "e.1 <F e.1 e.1> e.1 e.1"), large, 20001, api.OK},
+		{parsed(t, "e.1 <F e.1 e.1> e.1 e.1"), large, 20000, api.ErrLarge},
+		{parsed(t, "'ab'"), nil, 2, api.OK},
+		{parsed(t, "'ab'"), nil, 1, api.ErrLarge},
+		{nil, nil, 0, api.OK},
+		{nil, nil, -1, api.OK},
+		{parsed(t, "(e.1)"), []api.Binding{{Var: "e.1", Value: nested(99)}}, 20000, api.OK},
+		{parsed(t, "(e.1)"), []api.Binding{{Var: "e.1", Value: nested(100)}}, 20000, api.ErrLarge},
+		{bad, []api.Binding{{Var: "x"}}, 0, api.ErrForm},
+		{nil, []api.Binding{{Var: "x"}}, 0, apply.ErrSubst},
+	} {
+		got, e := apply.Within(c.e, c.l, c.most)
+		var want []api.Term
+		if c.want == api.OK {
+			want = simple(c.e, c.l)
+		}
+		if e != c.want || !term.Equal(got, want) {
+			t.Errorf("Within %d = %d terms, %v, want %v", c.most, len(got), e, c.want)
+		}
+	}
+}
+
+// simple puts values in without asking for limits.
+func simple(e []api.Term, l []api.Binding) []api.Term {
+	var out []api.Term
+	for _, t := range e {
+		i := slices.IndexFunc(l, func(b api.Binding) bool { return b.Var == term.Name(t) })
+		if i >= 0 {
+			out = append(out, l[i].Value...)
+			continue
+		}
+		t.Kids = simple(t.Kids, l)
+		out = append(out, t)
+	}
+	return out
+}

@@ -14,10 +14,10 @@ type tooLarge struct{}
 type extent struct{ nodes, depth int }
 
 // add counts a part of an expression that stands within so many terms.
-func (x *extent) add(level int, part extent) {
+func (x *extent) add(level int, part extent, most int) {
 	x.nodes += part.nodes
 	x.depth = max(x.depth, level+part.depth)
-	if x.nodes > api.MaxNodes || x.depth > api.MaxDepth {
+	if x.nodes > most || x.depth > api.MaxDepth {
 		panic(tooLarge{})
 	}
 }
@@ -26,6 +26,7 @@ func (x *extent) add(level int, part extent) {
 type replacer struct {
 	value   func(api.Term) ([]api.Term, bool) // of a variable
 	extents map[string]extent                 // of the values that were asked for
+	most    int                               // terms that a result may have
 }
 
 func newReplacer(l []api.Binding) replacer {
@@ -37,7 +38,7 @@ func newReplacer(l []api.Binding) replacer {
 		v, ok := values[term.Name(t)]
 		return v, ok
 	}
-	return replacer{value, map[string]extent{}}
+	return replacer{value, map[string]extent{}, api.MaxNodes}
 }
 
 // to returns a right expression with the values in it, or api.ErrLarge.
@@ -60,9 +61,9 @@ func (r replacer) measure(l []api.Term) {
 	var all extent
 	for level, t := range preorder(l) {
 		if value, ok := r.value(t); ok {
-			all.add(level, r.extent(t, value))
+			all.add(level, r.extent(t, value), r.most)
 		} else {
-			all.add(level, extent{nodes: 1})
+			all.add(level, extent{nodes: 1}, r.most)
 		}
 	}
 }

@@ -4,6 +4,7 @@ import (
 	"iter"
 
 	"chiasmus/api"
+	"chiasmus/stop"
 	"chiasmus/term"
 )
 
@@ -20,11 +21,16 @@ type search struct {
 	depth int
 }
 
+// check stops with the error of an argument.
+func check(pattern, value []api.Term, given []api.Binding) {
+	stop.Need(term.Pattern(pattern))
+	stop.Need(term.Value(value))
+	stop.Need(Bindings(given))
+}
+
 // newSearch returns the search for matches, or stops with the error of an argument.
 func newSearch(pattern, value []api.Term, given []api.Binding) *search {
-	need(term.Pattern(pattern))
-	need(term.Value(value))
-	need(Bindings(given))
+	check(pattern, value, given)
 	s := &search{value: append(items(nil, value), item{}), bound: map[string][]item{}}
 	for _, b := range given {
 		s.bound[b.Var] = items(nil, b.Value)
@@ -96,7 +102,7 @@ func (s *search) run(n *node, at int, yield func(int) bool) bool {
 func (s *search) deeper() {
 	s.depth++
 	if s.depth > api.MaxNodes+1 {
-		need(api.ErrDepth)
+		stop.Need(api.ErrDepth)
 	}
 }
 
