@@ -6,9 +6,13 @@ import (
 
 	"chiasmus/api"
 	"chiasmus/check"
+	"chiasmus/code"
 	"chiasmus/desugar"
+	"chiasmus/engine"
 	"chiasmus/extend"
 	"chiasmus/field"
+	"chiasmus/machine"
+	"chiasmus/project"
 	"chiasmus/term"
 	"chiasmus/trace"
 )
@@ -114,4 +118,90 @@ func TestGarbage(t *testing.T) {
 		n[outcome(removed)]++
 	}
 	n.need(t, 100, "error 0", "error 130", "recorders", outcome(api.ErrForm), outcome(check.ErrName), outcome(check.ErrUnbound))
+}
+
+// garbageUnit returns a unit of which nothing is right but by chance, or one that is right, but for what was spoiled.
+func (g *generator) garbageUnit(t *testing.T) code.Unit {
+	if g.Intn(3) > 0 {
+		p, _ := g.program(t)
+		u := unitOf(t, p)
+		for range g.Intn(2) {
+			g.spoil(u)
+		}
+		return u
+	}
+	var u code.Unit
+	for range g.Intn(3) {
+		r := code.Routine{Name: g.one("F", "G", "1", "")}
+		for range g.Intn(3) {
+			var rule code.Rule
+			for range g.Intn(3) {
+				rule.Plan.Ops = append(rule.Plan.Ops, project.Op{Kind: g.Intn(10), Hole: g.Intn(3) - 1, Var: g.one("", "s.1", "e.2", "x")})
+				rule.Build = append(rule.Build, code.Ins{Kind: g.Intn(10) - 1, Text: g.one("", "F", "s.1", "e.2", "\xff")})
+			}
+			r.Rules = append(r.Rules, rule)
+		}
+		u.Routines = append(u.Routines, r)
+	}
+	return u
+}
+
+// TestGarbageUnits does the same with the functions of the layers 19 to 21.
+func TestGarbageUnits(t *testing.T) {
+	g := newGenerator(52)
+	n := tally{}
+	for range 10000 {
+		u, p, e, fuel := g.garbageUnit(t), g.garbageProgram(), g.garbage(3), g.Intn(30)-2
+		if g.Intn(2) == 0 {
+			p, _ = g.program(t)
+		}
+		if g.Intn(2) == 0 {
+			e = g.expression(t)
+		}
+		cells := g.Intn(60) - 2
+		for _, r := range u.Routines {
+			for _, rule := range r.Rules {
+				l, built := code.Build(rule.Build, []api.Binding{{Var: "e.2", Value: e}, {Var: g.one("s.1", "x"), Value: g.garbage(2)}})
+				if built != api.OK && len(l) > 0 {
+					t.Fatalf("Build of %v = %v, %v", rule.Build, l, built)
+				}
+				n["build "+outcome(built)]++
+			}
+		}
+		_, of := code.Program(u)
+		m, e1 := machine.Load(u, e, cells)
+		if e1 != api.OK && m != nil || of != api.OK && e1 != of {
+			t.Fatalf("Load of %v = %v, %v", u, m, e1)
+		}
+		n["load "+outcome(e1)]++
+		if m != nil {
+			m.Step()
+			made, e2 := m.Go(fuel)
+			if now, most := m.Used(); now != cellsIn(m.State().Field) || now > most || most > cells || made > max(fuel, 0) {
+				t.Fatalf("behind Go of %d = %d, %v there are %d and %d cells", fuel, made, e2, now, most)
+			}
+			n["go "+outcome(e2)]++
+		}
+		s, e3 := machine.Run(p, e, fuel)
+		s2, e4 := engine.Run(p, e, fuel)
+		if e3 != e4 || !sameStates(s, s2) {
+			t.Fatalf("Run of %v is %v, %v for the machine, and %v, %v for the engine", e, s, e3, s2, e4)
+		}
+		n["run "+outcome(e3)]++
+		ok, e5 := engine.Both(p, e, fuel)
+		x, e6 := engine.New(p)
+		if ok != (e5 == api.OK) || (x == nil) != (e6 != api.OK) || e6 != api.OK && (e5 != e6 || e4 != e6) {
+			t.Fatalf("Both of %v = %v, %v, but New is %v, and Run %v", e, ok, e5, e6, e4)
+		}
+		if x != nil {
+			name := g.one("F", "G", "1", "")
+			called, e7 := x.Call(name, e, fuel)
+			ran, e8 := x.Run([]api.Term{{Kind: api.Call, Text: name, Kids: e}}, fuel)
+			if e7 != e8 || !sameStates(called, ran) {
+				t.Fatalf("Call of %q with %v = %v, %v, but Run %v, %v", name, e, called, e7, ran, e8)
+			}
+		}
+	}
+	n.need(t, 50, "load error 0", "load error 210", "load error 190", "load error 4", "load error 7", "load error 2", "go error 0", "go error 4", "go error 7",
+		"build error 0", "build error 9", "build error 210")
 }

@@ -1,5 +1,5 @@
-// Package bychance has tests of the layers 11 to 14 with programs by chance: runs of the layers are compared with each other,
-// and with runs that follow the chapters in the simplest way.
+// Package bychance has tests of the layers 11 to 14 and 19 to 21 with programs by chance: runs of the layers are compared with
+// each other, and with runs that follow the chapters in the simplest way.
 package bychance
 
 import (

@@ -194,3 +194,45 @@ func TestCheck(t *testing.T) {
 		}
 	}
 }
+
+// TestRunWith has functions that are no sentences.
+func TestRunWith(t *testing.T) {
+	asked := 0
+	own := map[string]field.Function{
+		"F": func(arg []api.Term) ([]api.Term, api.Errno) {
+			asked++
+			if len(arg) == 0 {
+				return nil, api.ErrRecognition
+			}
+			return arg[1:], api.OK
+		},
+		"Add":   func([]api.Term) ([]api.Term, api.Errno) { return term.Chars("own"), api.OK },
+		"Large": func([]api.Term) ([]api.Term, api.Errno) { return chars(20001), api.OK },
+		"None":  nil,
+	}
+	for _, c := range []struct {
+		s     api.State
+		fuel  int
+		want  string
+		asked int
+		e     api.Errno
+	}{
+		{state(t, "<F <F 'abc'>> <Add> <Sub 2 1>"), 9, "'cown' 1", 2, 0},
+		{state(t, "<F <F 'abc'>>"), 1, "<F 'bc'>", 1, api.ErrFuel},
+		{state(t, "<F <F 'a'>>"), 9, "<F>", 2, api.ErrRecognition},
+		{state(t, "<Large>"), 9, "<Large>", 0, api.ErrLarge},
+		{state(t, "<None>"), 9, "<None>", 0, api.ErrUndefined},
+		{api.State{Field: []api.Term{call("F", chars(4001)...)}}, 9, "large", 0, api.ErrLarge},
+		{notRight, -1, "", 0, field.ErrState},
+		{state(t, "<F>"), -1, "", 0, api.ErrRange},
+		{state(t, "<F>"), 100001, "", 0, api.ErrRange},
+	} {
+		asked = 0
+		if s, e := field.RunWith(own, c.s, c.fuel); e != c.e || text(s.Field) != c.want || asked != c.asked {
+			t.Errorf("RunWith of %s with %d = %s, %v, want %s, %v", text(c.s.Field), c.fuel, text(s.Field), e, c.want, c.e)
+		}
+	}
+	if s, e := field.RunWith(nil, state(t, "<F>"), 1); e != api.ErrUndefined || text(s.Field) != "<F>" {
+		t.Errorf("RunWith = %v, %v", s, e)
+	}
+}

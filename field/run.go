@@ -10,20 +10,44 @@ import (
 	"chiasmus/view"
 )
 
+// Function is an own function of a program: it returns the result for an argument, or the error of the step.
+type Function func(arg []api.Term) ([]api.Term, api.Errno)
+
+// functions returns those of a program by their names.
+func functions(p api.Program) map[string]Function {
+	own := map[string]Function{}
+	for _, f := range p.Functions {
+		own[f.Name] = func(arg []api.Term) ([]api.Term, api.Errno) {
+			number, bindings, code := first(f.Sentences, arg)
+			if code != api.OK {
+				return nil, code
+			}
+			return apply.Within(f.Sentences[number].Right, bindings, api.MaxField)
+		}
+	}
+	return own
+}
+
+// first returns the number of the first sentence that takes an argument, and its match.
+func first(l []api.Sentence, arg []api.Term) (int, []api.Binding, api.Errno) {
+	for i, s := range l {
+		if bindings, code := match.First(s.Left, arg, nil); code == api.OK {
+			return i, bindings, api.OK
+		}
+	}
+	return 0, nil, api.ErrRecognition
+}
+
 // run is a state on its way: its view field is open, and the Field in the state is that of the beginning.
 // Its methods stop with the errors of a step.
 type run struct {
 	api.State
 	view      *view.Field
-	sentences map[string][]api.Sentence
+	functions map[string]Function
 }
 
-func newRun(p api.Program, s api.State) *run {
-	r := &run{State: s, view: view.Open(s.Field), sentences: map[string][]api.Sentence{}}
-	for _, f := range p.Functions {
-		r.sentences[f.Name] = f.Sentences
-	}
-	return r
+func newRun(own map[string]Function, s api.State) *run {
+	return &run{State: s, view: view.Open(s.Field), functions: own}
 }
 
 // state returns the present state, whose Field is memory of its own.
@@ -50,7 +74,7 @@ const (
 )
 
 func (r *run) kind(name string) int {
-	if _, ok := r.sentences[name]; ok {
+	if r.functions[name] != nil {
 		return own
 	}
 	if builtin.Is(name) {
@@ -81,21 +105,9 @@ func (r *run) call() api.Term {
 }
 
 func (r *run) own(call api.Term) ([]api.Term, api.Store) {
-	number, bindings := r.first(call)
-	result, code := apply.Within(r.sentences[call.Text][number].Right, bindings, api.MaxField)
+	result, code := r.functions[call.Text](call.Kids)
 	stop.Need(code)
 	return result, r.Store
-}
-
-// first returns the number of the first sentence that takes a call's argument, and its match.
-func (r *run) first(call api.Term) (int, []api.Binding) {
-	for i, s := range r.sentences[call.Text] {
-		if bindings, code := match.First(s.Left, call.Kids, nil); code == api.OK {
-			return i, bindings
-		}
-	}
-	stop.Need(api.ErrRecognition)
-	return 0, nil
 }
 
 func (r *run) builtIn(call api.Term) ([]api.Term, api.Store) {
@@ -107,16 +119,4 @@ func (r *run) builtIn(call api.Term) ([]api.Term, api.Store) {
 func (r *run) none(api.Term) ([]api.Term, api.Store) {
 	stop.Need(api.ErrUndefined)
 	return nil, api.Store{}
-}
-
-// sentence returns the number and the match of the sentence that the next step uses.
-func (r *run) sentence() (int, []api.Binding) {
-	call := r.call()
-	switch r.kind(call.Text) {
-	case own:
-		return r.first(call)
-	case none:
-		stop.Need(api.ErrUndefined)
-	}
-	return -1, nil
 }

@@ -27,12 +27,12 @@ type span [2]int
 // list is a list of terms: it begins with a cell, and ends ahead of another one, a bracket, or 0 where no bracket is around it.
 type list struct{ first, end int }
 
-// cellsOf returns how many cells an expression takes.
-func cellsOf(l []api.Term) int {
+// Cells returns how many cells an expression takes.
+func Cells(l []api.Term) int {
 	n := len(l)
 	for _, t := range l {
 		if t.Kind == api.Group || t.Kind == api.Call {
-			n += 1 + cellsOf(t.Kids)
+			n += 1 + Cells(t.Kids)
 		}
 	}
 	return n

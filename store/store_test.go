@@ -156,6 +156,19 @@ func TestPut(t *testing.T) {
 	}
 }
 
+// TestCells counts the cells of expressions that are in no store.
+func TestCells(t *testing.T) {
+	for _, text := range []string{"", "'a' b 1 s.x t.x e.x", "a (b) c", "<F (<G> ('b')) ()> (((c)))", nested(100), strings.Repeat("() ", 4000)} {
+		s := made(t, 20000)
+		if _, e := s.Put(parsed(t, text)); e != api.OK {
+			t.Fatalf("Put(%s) = %v", text, e)
+		}
+		if used, _ := s.Used(); Cells(parsed(t, text)) != used {
+			t.Errorf("Cells of %s is %d, want %d", text, Cells(parsed(t, text)), used)
+		}
+	}
+}
+
 // A result shares nothing with the store, nor does what was put.
 func TestMemory(t *testing.T) {
 	s := made(t, 20)
