@@ -37,6 +37,12 @@ func isName(s string) bool {
 	return term.Result([]api.Term{{Kind: api.Call, Text: s}}) == api.OK
 }
 
+// isVariable reports whether a text is a variable.
+func isVariable(s string) bool {
+	_, ok := term.Variable(s)
+	return ok
+}
+
 // check stops with the error of a rule, whose instructions are not too many.
 func (r Rule) check() {
 	stop.Need(project.Check(r.Plan))
@@ -109,8 +115,7 @@ func isShaped(i Ins) bool {
 	case Call:
 		return isName(i.Text)
 	case Move, Copy:
-		_, ok := term.Variable(i.Text)
-		return ok
+		return isVariable(i.Text)
 	}
 	return false
 }

@@ -72,9 +72,8 @@ func (r *reader) line(l line) {
 	r.ins(kind, l)
 }
 
-// routine begins a routine. Whether its name is right is told of the unit.
 func (r *reader) routine(l line) {
-	next := Routine{Name: l.word()}
+	next := Routine{Name: name(l.word())}
 	if l.more() {
 		stop.Unless(l.word() == "entry", ErrLine)
 		next.Entry = true
@@ -116,7 +115,7 @@ func (r *reader) op(kind int, l line) {
 		o.Symbol = symbol(l.rest())
 	}
 	if hasVar(kind) {
-		o.Var = l.word()
+		o.Var = variable(l.word())
 	}
 	rule.Plan.Ops = append(rule.Plan.Ops, o)
 }
@@ -127,10 +126,24 @@ func (r *reader) ins(kind int, l line) {
 	switch kind {
 	case Put:
 		i.Symbol = symbol(l.rest())
-	case Call, Move, Copy:
-		i.Text = l.word()
+	case Call:
+		i.Text = name(l.word())
+	case Move, Copy:
+		i.Text = variable(l.word())
 	}
 	rule.Build = append(rule.Build, i)
+}
+
+// name returns a word that is the name of a function.
+func name(s string) string {
+	stop.Unless(isName(s), ErrLine)
+	return s
+}
+
+// variable returns a word that is a variable. Whether it may stand there is told of the unit.
+func variable(s string) string {
+	stop.Unless(isVariable(s), ErrLine)
+	return s
 }
 
 // number returns the number with some digits.

@@ -142,6 +142,12 @@ func TestWrongLines(t *testing.T) {
 		"empty", "empty 0 left", "empty 0 ", "empty e.1", "close 0", "close 0 left e.1", "close e.1", "open 0", "open 0 right e.1", "Open 0 e.1", "open 0 e.1 e.2",
 		"put", "put ", "put 'ab'", "put e.1", "put (a)", "put (", "put <F>", "put a b", "put  a", "put a ", "put '", "put 1a",
 		"begin ", "begin x", "end x", "stop F", "call", "call ", "call F G", "call F ", "move", "move ", "move e.1 e.2", "move e.1 ", "copy", "copy  e.1", "copy e.1 x",
+		// words that are no names, and no variables
+		"routine 0", "routine 1G entry", "routine -", "routine _G", "routine G.", "routine e.1", "routine <G>", "routine " + long("g", 41), "routine \xe4",
+		"call 5", "call -1", "call G.H", "call s.1", "call 'G'", "call " + long("g", 41),
+		"takes 0 left s", "takes 0 left 's'", "taket 0 right t.", "taket 0 left t.a-b", "known 0 left e", "known 0 right x.1", "known 0 left e." + long("x", 41),
+		"close 0 5", "close 0 E.1", "open 0 5", "open 0 e", "open 0 e.1.2", "open 0 e.\xe4", "open 0 entry",
+		"move 5", "move x", "move s.", "move .1", "move e.x_", "move e." + long("x", 41), "copy s.", "copy 1", "copy t.*",
 	} {
 		for _, behind := range [][]string{nil, {"move s.1"}} {
 			text := slices.Concat(head, behind, []string{l, "nothing"})
@@ -205,13 +211,12 @@ func TestReadErrors(t *testing.T) {
 	}{
 		{many, api.ErrCount},
 		{append(rule("empty 0"), slices.Repeat([]string{"rule", "empty 0"}, 40)...), api.ErrCount},
-		{[]string{"routine 1"}, code.ErrUnit},
 		{[]string{"routine entry entry", "rule", "empty 0"}, api.OK},
 		{append(rule("empty 0"), rule("empty 0")...), code.ErrUnit},
 		{rule(), project.ErrPlan},
 		{rule("put a"), project.ErrPlan},
 		{rule("takes 0 left e.1", "empty 0"), project.ErrPlan},
-		{rule("takes 0 left x", "empty 0"), project.ErrPlan},
+		{rule("open 0 s.1", "empty 0"), project.ErrPlan},
 		{rule("takes 0 left s.1", "takes 0 left s.1", "empty 0"), project.ErrPlan},
 		{rule("empty 1"), project.ErrPlan},
 		{rule("open 0 e.1", "empty 0"), code.ErrUnit},
@@ -219,8 +224,7 @@ func TestReadErrors(t *testing.T) {
 		{rule("known 0 left e.1", "empty 0"), project.ErrPlan},
 		{rule("close 0 e.1", "copy e.1"), code.ErrUnit},
 		{rule("close 0 e.1", "move e.2"), code.ErrUnit},
-		{rule("close 0 e.1", "move 1"), code.ErrUnit},
-		{rule("close 0 e.1", "call 1", "stop"), code.ErrUnit},
+		{rule("empty 0", "copy s.1"), code.ErrUnit},
 		{rule("close 0 e.1", "begin"), code.ErrUnit},
 		{rule("close 0 e.1", "end"), code.ErrUnit},
 		// the unit is right, but has no text: its program is not right
@@ -231,6 +235,8 @@ func TestReadErrors(t *testing.T) {
 		{rule("empty 0", `put '\x61'`), code.ErrUnit},
 		{rule(`symbol 0 left "a"`, "empty 0"), code.ErrUnit},
 		{rule("empty 0", "put a"), api.OK},
+		// the longest names
+		{[]string{"routine " + long("f", 40), "rule", "close 0 e." + long("x", 40), "call " + long("G", 40), "move e." + long("x", 40), "stop"}, api.OK},
 	} {
 		u, n, e := code.Read(lines(c.lines...))
 		if e != c.e || n != 0 || e != api.OK && !isZero(u) {
