@@ -1,4 +1,4 @@
-// Package bychance has tests of the layers 11 to 14 and 19 to 21 with programs by chance: runs of the layers are compared with
+// Package bychance has tests of the layers 11 to 14, 19 to 22, 24 and 25 with programs by chance: runs of the layers are compared with
 // each other, and with runs that follow the chapters in the simplest way.
 package bychance
 
@@ -20,6 +20,7 @@ type generator struct {
 	strict   bool // patterns leave no choice
 	tests    bool // sentences may have conditions and blocks
 	meta     bool // Mu and Dn may be called
+	pure     bool // no built-in function is called
 	variable int  // the number of the last variable
 }
 
@@ -77,7 +78,7 @@ func (g *generator) result(bound []string, depth int) string {
 			l = append(l, "("+g.result(bound, depth-1)+")")
 		case k < 11 && depth > 0:
 			l = append(l, "<"+g.one("F", "G", "H")+" "+g.result(bound, depth-1)+">")
-		case k == 11:
+		case k == 11 && !g.pure:
 			l = append(l, g.builtIn(g.result(bound, 0)))
 		}
 	}

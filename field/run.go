@@ -13,8 +13,8 @@ import (
 // Function is an own function of a program: it returns the result for an argument, or the error of the step.
 type Function func(arg []api.Term) ([]api.Term, api.Errno)
 
-// functions returns those of a program by their names.
-func functions(p api.Program) map[string]Function {
+// Functions returns those of a right core program by their names.
+func Functions(p api.Program) map[string]Function {
 	own := map[string]Function{}
 	for _, f := range p.Functions {
 		own[f.Name] = func(arg []api.Term) ([]api.Term, api.Errno) {
